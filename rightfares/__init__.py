@@ -1,0 +1,1 @@
+"""Rightfares: costs by which told alignments are best."""
