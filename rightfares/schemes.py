@@ -2,6 +2,7 @@
 
 from rightfares.alignments import DELETION, INSERTION, MATCH, has_only_letters, kind_of
 from rightfares.errors import RightfaresError
+from rightfares.linear import product_of
 
 MOST_GROUPS = 4
 
@@ -88,7 +89,7 @@ def added_by(scheme, before, top, bottom):
 
 def cost_of_counts(counts, costs):
     """The cost of counts: the sum of the products, place by place."""
-    return sum([many * cost for many, cost in zip(counts, costs)])
+    return product_of(counts, costs)
 
 
 def cost_of(scheme, alignment, costs):

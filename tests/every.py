@@ -1,6 +1,22 @@
 """Plain enumerations to hold the program against; they use nothing of the program."""
 
-from itertools import product
+from fractions import Fraction
+from itertools import combinations, product
+from math import gcd, lcm
+
+# Each kind of scheme: groups, gaps, sides; of size 2, 3 and 4.
+SCHEMES = [
+    ([], False, False), ([], True, False), ([], False, True), ([], True, True),
+    (["ab"], False, False), (["ab"], True, False), (["ab"], False, True),
+    (["ac", "bd"], True, False), (["abc"], False, True),
+]
+
+# Pairs of sequences: empty ones, equal ones, others; without and with as many letters as there may be.
+PAIRS = [
+    ("", ""), ("", "a"), ("ba", ""), ("a", "a"), ("a", "b"), ("ab", "ba"), ("ab", "ab"), ("aa", "aaa"), ("abc", "cab"),
+    ("abdb", "cad"), ("cab", "abcd"), ("aab", "bba"),
+]
+LONG_PAIRS = [("abcdef", "fedcba"), ("aabbcc", "abcabc"), ("dddddd", "dddddd"), ("abcabd", "")]
 
 # All sequences of at most two letters over a, b, c, and a few longer ones.
 SHORT = ["".join(letters) for length in range(3) for letters in product("abc", repeat=length)]
@@ -36,3 +52,113 @@ def plain_counts(groups, gaps, sides, alignment):
     if sides:
         return counts + [words.count("D"), words.count("I")]
     return counts + [words.count("D") + words.count("I")]
+
+
+def cost(counts, costs):
+    """The cost of counts."""
+    return sum(many * one for many, one in zip(counts, costs))
+
+
+TOLD = {}
+
+
+def counted(kind, first, second):
+    """All alignments of two sequences, in their order, each with its counts; worked out once for all tests."""
+    key = (repr(kind), first, second)
+    if key not in TOLD:
+        TOLD[key] = [(alignment, plain_counts(*kind, alignment)) for alignment in every_alignment(first, second)]
+    return TOLD[key]
+
+
+def plain_size(kind):
+    """The size of a scheme."""
+    return len(plain_counts(*kind, ("", "")))
+
+
+def plain_best(kind, first, second, costs):
+    """The least cost, and the list of the best alignments in their order."""
+    told = [(alignment, cost(counts, costs)) for alignment, counts in counted(kind, first, second)]
+    least = min(one for _, one in told)
+    return least, [alignment for alignment, one in told if one == least]
+
+
+def matches(alignment):
+    """The pairs of the indexes of letters that stand in one column."""
+    first_row, second_row = alignment
+    return [(k - first_row[:k].count("-"), k - second_row[:k].count("-"))
+            for k in range(len(first_row)) if "-" not in (first_row[k], second_row[k])]
+
+
+def some_costs(many):
+    """Costs of a size: zeros among them, all of them 0, equal ones, small ones, greatest ones."""
+    told = [[0, 1, 0, 1], [2, 1, 1, 3], [3, 2, 1, 0], [0, 0, 0, 0], [1000000] * 4, [1, 1, 1, 1], [0, 5, 2, 1],
+            [7, 0, 3, 4], [1000000, 1, 0, 1000000], [1, 3, 1, 2]]
+    return [costs[:many] for costs in told]
+
+
+def plain_possible(kind, first, second):
+    """The possible counts, ascending."""
+    return [list(counts) for counts in sorted({tuple(counts) for _, counts in counted(kind, first, second)})]
+
+
+def plain_minimal(possible):
+    """The minimal ones of possible counts, as point 8 says."""
+    return [counts for counts in possible
+            if not [other for other in possible if other != counts and all(a <= b for a, b in zip(other, counts))]]
+
+
+def solutions(rows, length):
+    """A basis, of fractions, of the vectors of this length whose product with each row is 0."""
+    rows = [[Fraction(number) for number in row] for row in rows]
+    leading = []
+    for at in range(length):
+        usable = [row for row in rows[len(leading):] if row[at] != 0]
+        if usable:
+            rows.remove(usable[0])
+            pivot = [number / usable[0][at] for number in usable[0]]
+            rows = [[a - b * row[at] for a, b in zip(row, pivot)] for row in rows]
+            rows.insert(len(leading), pivot)
+            leading.append(at)
+    basis = []
+    for free in [at for at in range(length) if at not in leading]:
+        vector = [Fraction(int(at == free)) for at in range(length)]
+        for row, at in zip(rows, leading):
+            vector[at] = -row[free]
+        basis.append(vector)
+    return basis
+
+
+def whole(vector):
+    """The multiple of a vector of fractions that is of integers without a common divisor, with its signs."""
+    scale = lcm(*[number.denominator for number in vector])
+    numbers = [int(number * scale) for number in vector]
+    return [number // gcd(*numbers) for number in numbers]
+
+
+def plain_rays(many, inequalities):
+    """The rays of the costs of at least 0 for which the inequalities hold, as point 12 says, by all choices."""
+    rows = [[int(k == place) for k in range(many)] for place in range(many)]
+    rows += [row for k, row in enumerate(inequalities) if any(row) and row not in inequalities[:k]]
+    found = set()
+    for chosen in combinations(rows, many - 1):
+        basis = solutions(list(chosen), many)
+        if len(basis) == 1:
+            for sign in [1, -1]:
+                ray = whole([sign * number for number in basis[0]])
+                if all(cost(row, ray) >= 0 for row in rows):
+                    found.add(tuple(ray))
+    return [list(ray) for ray in sorted(found)]
+
+
+def plain_combination(rays, costs):
+    """True if costs are a combination of rays: then they are one of independent rays, of which all sets are tried."""
+    if not any(costs):
+        return True
+    for many in range(1, len(costs) + 1):
+        for chosen in combinations(rays, many):
+            # With independent rays there is one solution at most, up to a factor, that has the costs in it.
+            rows = [[ray[k] for ray in chosen] + [-costs[k]] for k in range(len(costs))]
+            basis = solutions(rows, many + 1)
+            if len(basis) == 1 and basis[0][-1] != 0 and all(n / basis[0][-1] >= 0 for n in basis[0]):
+                return True
+    return False

@@ -18,6 +18,24 @@ INTERFACE = {
         "Scheme": ["groups", "gaps", "sides"], "size": ["scheme"], "counts_of": ["scheme", "alignment"],
         "cost_of": ["scheme", "alignment", "costs"],
     },
+    "best.py": {
+        "least_cost": ["scheme", "first", "second", "costs"], "count_best": ["scheme", "first", "second", "costs"],
+        "best_at": ["scheme", "first", "second", "costs", "index"], "index_of": ["scheme", "alignment", "costs"],
+        "certain_matches": ["scheme", "first", "second", "costs"],
+        "possible_matches": ["scheme", "first", "second", "costs"],
+    },
+    "tables.py": {
+        "table_of": ["scheme", "first", "second", "costs"],
+        "is_right": ["scheme", "first", "second", "costs", "table"], "bound_of": ["table"],
+    },
+    "counted.py": {
+        "possible_counts": ["scheme", "first", "second"], "minimal_counts": ["scheme", "first", "second"],
+        "count_with": ["scheme", "first", "second", "counts"], "first_with": ["scheme", "first", "second", "counts"],
+    },
+    "cones.py": {
+        "rays_of_counts": ["scheme", "first", "second", "counts"], "rays_of_examples": ["scheme", "examples"],
+        "inner_costs": ["rays"], "is_combination": ["rays", "costs"],
+    },
 }
 LIBRARY = {"heapq", "math", "itertools", "collections", "__future__"}
 

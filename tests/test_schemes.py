@@ -3,13 +3,7 @@ from copy import deepcopy
 
 from rightfares.errors import RightfaresError
 from rightfares.schemes import Scheme, cost_of, counts_of, size
-from tests.every import LONGER, SHORT, every_alignment, plain_counts
-
-SCHEMES = [
-    ([], False, False), ([], True, False), ([], False, True), ([], True, True),
-    (["ab"], False, False), (["ab"], True, False), (["ab"], False, True),
-    (["ac", "bd"], True, False), (["abc"], False, True),
-]
+from tests.every import LONGER, SCHEMES, SHORT, every_alignment, plain_counts
 
 
 class TestScheme(unittest.TestCase):
