@@ -20,14 +20,20 @@ def rays_of_counts(scheme, first, second, counts):
     return rays_where(size(scheme), inequalities_of(minimal_among(possible), counts))
 
 
+def inequalities_of_example(scheme, example):
+    """What makes an example best, as inequalities_of tells it."""
+    first, second = sequences_of(example)
+    return inequalities_of(minimal_counts(scheme, first, second), counts_of(scheme, example))
+
+
+def inequalities_of_examples(scheme, examples):
+    """What makes each of some examples best."""
+    return [inequality for example in examples for inequality in inequalities_of_example(scheme, example)]
+
+
 def rays_of_examples(scheme, examples):
     """The rays of the cone of some examples."""
-    inequalities = []
-    for example in examples:
-        first, second = sequences_of(example)
-        minimal = minimal_counts(scheme, first, second)
-        inequalities.extend(inequalities_of(minimal, counts_of(scheme, example)))
-    return rays_where(size(scheme), inequalities)
+    return rays_where(size(scheme), inequalities_of_examples(scheme, examples))
 
 
 def inner_costs(rays):

@@ -1,6 +1,6 @@
 """Lists of integers as vectors: without common divisors, independent ones, cones and combinations of them."""
 
-from math import gcd
+from math import gcd, lcm
 
 
 def product_of(one, other):
@@ -51,12 +51,17 @@ def units(length):
 
 def rays_where(length, inequalities):
     """The rays, ascending, of the vectors of numbers of at least 0 whose product with each inequality is too."""
-    held = units(length)
-    rays = units(length)
+    return rays_within(units(length), units(length), inequalities)
+
+
+def rays_within(rays, known, inequalities):
+    """The rays, ascending, of a cone with these rays and known inequalities, if other inequalities hold as well."""
+    held = list(known)
+    left = list(rays)
     for inequality in inequalities:
         held.append(inequality)
-        rays = rays_cut(rays, inequality, held)
-    return sorted(rays)
+        left = rays_cut(left, inequality, held)
+    return sorted(left)
 
 
 def rays_cut(rays, inequality, held):
@@ -86,8 +91,14 @@ def is_ray(vector, held):
 
 
 def is_sum_of_multiples(vectors, wanted):
-    """True if a list of numbers of at least 0 is a sum of multiples of the vectors by fractions of at least 0.
+    """True if a list of numbers of at least 0 is a sum of multiples of the vectors by fractions of at least 0."""
+    return multiples_for(vectors, wanted) is not None
 
+
+def multiples_for(vectors, wanted):
+    """Numbers by which the sum of the vectors is a multiple, by more than 0, of a list of numbers of at least 0.
+
+    They are at least 0, and at most as many of them as the list is long are not 0; None if there are no such numbers.
     This is the first phase of the simplex algorithm: each row is an equation, the last number of which is its right
     side. At first the multiples are all 0, and each row lacks its right side; gains tell what the rows lack together,
     and what one more of each vector would take off.
@@ -99,13 +110,39 @@ def is_sum_of_multiples(vectors, wanted):
     while gains[-1] > 0:
         at = first_gain(gains)
         if at is None:
-            return False
+            return None
         place = row_to_solve(rows, solved_for, at)
         pivot = rows[place]
         gains = cleared(gains, pivot, at)
         rows = [row if k == place else cleared(row, pivot, at) for k, row in enumerate(rows)]
         solved_for[place] = at
-    return True
+    return multiples_told(rows, solved_for, len(vectors))
+
+
+def multiples_told(rows, solved_for, many):
+    """The multiples of so many vectors that solved rows tell, all of them times one number, so that each is whole."""
+    told = [(row, at) for row, at in zip(rows, solved_for) if at < many]
+    scale = 1
+    for row, at in told:
+        scale = lcm(scale, row[at])
+    multiples = [0] * many
+    for row, at in told:
+        multiples[at] = row[-1] * (scale // row[at])
+    return multiples
+
+
+def weights_below(length, vectors):
+    """Numbers by which the sum of the vectors is at most 0 everywhere and less somewhere; None if there are none.
+
+    They are at least 0, and at most as many of them as the vectors are long are not 0.
+    """
+    # Units fill up to 0 what the sum lacks. The last place wants some of them, so the sum is less than 0 somewhere.
+    # It makes the vectors longer by one; as one number at least is that of a unit, not too many are left.
+    filling = [unit + [1] for unit in units(length)]
+    multiples = multiples_for([vector + [0] for vector in vectors] + filling, [0] * length + [1])
+    if multiples is None:
+        return None
+    return without_divisor(multiples[:len(vectors)])
 
 
 def first_gain(gains):

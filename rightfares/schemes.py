@@ -5,6 +5,7 @@ from rightfares.errors import RightfaresError
 from rightfares.linear import product_of
 
 MOST_GROUPS = 4
+MOST_COST = 1000000
 
 
 class Scheme:
@@ -95,3 +96,15 @@ def cost_of_counts(counts, costs):
 def cost_of(scheme, alignment, costs):
     """The cost of an alignment."""
     return cost_of_counts(counts_of(scheme, alignment), costs)
+
+
+def is_plain_integer(thing):
+    """True if anything that is passed is an integer, and no bool."""
+    return isinstance(thing, int) and not isinstance(thing, bool)
+
+
+def are_positive_costs(scheme, thing):
+    """True if anything that is passed is a list of positive costs of a scheme."""
+    if not isinstance(thing, list) or len(thing) != size(scheme):
+        return False
+    return all([is_plain_integer(one) and 1 <= one <= MOST_COST for one in thing])

@@ -2,7 +2,7 @@
 
 from rightfares.alignments import DELETION, INSERTION, MATCH
 from rightfares.nodes import best_beginnings, moves_from, nodes_of
-from rightfares.schemes import cost_of_counts
+from rightfares.schemes import cost_of_counts, is_plain_integer
 
 
 def table_of(scheme, first, second, costs):
@@ -46,7 +46,7 @@ def are_values(thing):
 
 def is_value(thing):
     """True if anything that is passed is None or an integer, and no bool."""
-    return thing is None or (isinstance(thing, int) and not isinstance(thing, bool))
+    return thing is None or is_plain_integer(thing)
 
 
 def value_of(table, node):

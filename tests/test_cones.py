@@ -7,13 +7,17 @@ from rightfares.cones import inner_costs, is_combination, rays_of_counts, rays_o
 from rightfares.errors import RightfaresError
 from rightfares.schemes import Scheme
 from tests.every import (
+    EXAMPLES,
     LONG_PAIRS,
     PAIRS,
     SCHEMES,
+    coefficients,
     cost,
     counted,
+    grid,
     plain_best,
     plain_combination,
+    plain_example_rays,
     plain_minimal,
     plain_possible,
     plain_rays,
@@ -23,34 +27,6 @@ from tests.every import (
 
 EXAMPLE = Scheme([], True, False)
 UNITS = [[0, 0, 1], [0, 1, 0], [1, 0, 0]]
-
-# Lists of one to four examples; some have no positive costs in common.
-EXAMPLES = [
-    [("", "")], [("a", "-")], [("ab", "ba")], [("ab-", "-ba")], [("a-b", "-ba")], [("ab", "ba"), ("ab-", "-ba")],
-    [("ab", "ab"), ("a", "b")], [("abc-", "-cab"), ("ab", "ba"), ("a-", "-b")], [("cab-", "-abd"), ("aab", "bba")],
-    [("a", "b"), ("a", "c"), ("c-", "-a"), ("ab", "-b")], [("ab-", "-ba")] * 4, [("abdb", "ca-d"), ("abc", "cab")],
-]
-
-
-def coefficients(kind, alignment_counts, first, second):
-    """For each minimal counts of the sequences what they have more than these counts."""
-    minimal = plain_minimal(plain_possible(kind, first, second))
-    return [[rival - own for rival, own in zip(rivals, alignment_counts)] for rivals in minimal]
-
-
-def plain_example_rays(kind, examples):
-    inequalities = []
-    for rows in examples:
-        first, second = [row.replace("-", "") for row in rows]
-        [counts] = [own for alignment, own in counted(kind, first, second) if alignment == rows]
-        inequalities += coefficients(kind, counts, first, second)
-    return plain_rays(plain_size(kind), inequalities)
-
-
-def grid(many):
-    """All costs of a size with small numbers."""
-    return [list(costs) for costs in product(range(6 - many), repeat=many)] + some_costs(many)
-
 
 class TestRays(unittest.TestCase):
     def assert_rays(self, rays):

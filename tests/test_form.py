@@ -6,7 +6,7 @@ from pathlib import Path
 
 PACKAGE = Path(__file__).resolve().parent.parent / "rightfares"
 
-# What has landed of the interface: for each file its functions, and its classes by their __init__.
+# The interface: for each file its functions, and its classes by their __init__; for each class its methods.
 INTERFACE = {
     "errors.py": {"RightfaresError": ["reason"]},
     "alignments.py": {
@@ -36,6 +36,23 @@ INTERFACE = {
         "rays_of_counts": ["scheme", "first", "second", "counts"], "rays_of_examples": ["scheme", "examples"],
         "inner_costs": ["rays"], "is_combination": ["rays", "costs"],
     },
+    "examples.py": {
+        "explanation": ["scheme", "examples"], "is_explanation": ["scheme", "examples", "told"],
+        "refutation": ["scheme", "examples"], "is_refutation": ["scheme", "examples", "rivals"],
+        "largest_explained": ["scheme", "examples"],
+    },
+    "foretold.py": {
+        "best_for_some": ["scheme", "examples", "first", "second"],
+        "certain_for_all": ["scheme", "examples", "first", "second"],
+        "possible_for_some": ["scheme", "examples", "first", "second"],
+    },
+    "lines.py": {"turns": ["scheme", "first", "second", "start", "end"]},
+    "fittings.py": {"Fitting": ["scheme"]},
+}
+METHODS = {
+    "Fitting": {
+        "examples": [], "rays": [], "costs": [], "is_refuted": [], "add": ["alignment"], "undo": [], "copy": [],
+    },
 }
 LIBRARY = {"heapq", "math", "itertools", "collections", "__future__"}
 
@@ -60,6 +77,14 @@ class TestInterface(unittest.TestCase):
             for word, arguments in wanted.items():
                 self.assertIn(word, found, name)
                 self.assertEqual(arguments_of(found[word]), arguments, word)
+                self.assert_methods(found[word], METHODS.get(word, {}))
+
+    def assert_methods(self, node, wanted):
+        """Each method stands in the class itself."""
+        methods = {part.name: part for part in node.body if isinstance(part, ast.FunctionDef)}
+        for word, arguments in wanted.items():
+            self.assertIn(word, methods, node.name)
+            self.assertEqual(arguments_of(methods[word]), ["self"] + arguments, word)
 
 
 class TestForm(unittest.TestCase):

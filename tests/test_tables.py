@@ -3,67 +3,21 @@ from copy import deepcopy
 
 from rightfares.schemes import Scheme
 from rightfares.tables import bound_of, is_right, table_of
-from tests.every import LONG_PAIRS, PAIRS, SCHEMES, cost, counted, plain_best, plain_counts, plain_size, some_costs
+from tests.every import (
+    LONG_PAIRS,
+    PAIRS,
+    SCHEMES,
+    changed,
+    places,
+    plain_best,
+    plain_is_right,
+    plain_size,
+    plain_table,
+    some_costs,
+)
 
 EXAMPLE = Scheme([], True, False)
 COSTS = [2, 1, 1]
-KINDS = "MDI"
-
-
-def kind_of(top, bottom):
-    return "D" if bottom == "-" else "I" if top == "-" else "M"
-
-
-def plain_table(kind, first, second, costs):
-    """The least costs of all beginnings, by cutting all alignments everywhere."""
-    table = [[[None] * 3 for _ in range(len(second) + 1)] for _ in range(len(first) + 1)]
-    table[0][0][0] = 0
-    for (top, bottom), _ in counted(kind, first, second):
-        for end in range(1, len(top) + 1):
-            begun = (top[:end], bottom[:end])
-            own = cost(plain_counts(*kind, begun), costs)
-            i, j = [len(row.replace("-", "")) for row in begun]
-            at = KINDS.index(kind_of(top[end - 1], bottom[end - 1]))
-            have = table[i][j][at]
-            table[i][j][at] = own if have is None else min(own, have)
-    return table
-
-
-def plain_move(kind, before, top, bottom, costs):
-    """What a column costs behind one of the kind before: what two columns cost together, less the first one."""
-    column = {"M": ("z", "z"), "D": ("z", "-"), "I": ("-", "z")}[before]
-    both = (column[0] + top, column[1] + bottom)
-    return cost(plain_counts(*kind, both), costs) - cost(plain_counts(*kind, column), costs)
-
-
-def plain_is_right(kind, first, second, costs, table):
-    """What point 10 says, move by move, of a table that has the right sizes and values."""
-    right = table[0][0][0] == 0
-    for i in range(len(first) + 1):
-        for j in range(len(second) + 1):
-            for before in KINDS:
-                moves = [(1, 1, first[i], second[j])] if i < len(first) and j < len(second) else []
-                moves += [(1, 0, first[i], "-")] if i < len(first) else []
-                moves += [(0, 1, "-", second[j])] if j < len(second) else []
-                value = table[i][j][KINDS.index(before)]
-                for more_i, more_j, top, bottom in moves if value is not None else []:
-                    behind = table[i + more_i][j + more_j][KINDS.index(kind_of(top, bottom))]
-                    right = right and behind is not None
-                    right = right and behind <= value + plain_move(kind, before, top, bottom, costs)
-    return right
-
-
-def places(table):
-    """All places of a table."""
-    return [(i, j, k) for i, row in enumerate(table) for j, values in enumerate(row) for k in range(len(values))]
-
-
-def changed(table, place, value):
-    """A copy of a table with another value at a place."""
-    i, j, k = place
-    other = deepcopy(table)
-    other[i][j][k] = value
-    return other
 
 
 class TestTableOf(unittest.TestCase):
